@@ -591,6 +591,9 @@ func TestCallsToEnd(t *testing.T) {
 		{atPlace(counted(5), 0, 0), 0, -1},
 		{atPlace(counted(5), 0, 0), -1, -1},
 		{atPlace(counted(5), 0, 0), 61, -1},
+		{atPlace(nil, 0, 0), 0, -1},
+		{atPlace(nil, 0, 0), -1, -1},
+		{atPlace(nil, 0, 0), 61, -1},
 	} {
 		if got := impl.CallsToEnd(c.d, c.n); got != c.want {
 			t.Errorf("CallsToEnd(%v, %d) = %d, not %d", c.d, c.n, got, c.want)
@@ -661,36 +664,10 @@ func TestDeviceResultsAreNew(t *testing.T) {
 	}
 	for _, m := range made {
 		for _, script := range [][]int{{2, 5}, {2, 0}, {2, -1}} {
-			spoilAndCheck(t, m.name, script, m.call)
+			arg := impl.Device{Data: roomy(counted(5)), At: 1, Script: roomy(script), Step: 1}
+			list := roomy([]int{9, 8})
+			next, got := m.call(arg, list)
+			checkApart(t, m.name, arg.Data, arg.Script, list, next.Data, next.Script, got)
 		}
-	}
-}
-
-// spoilAndCheck spoils the slices of an argument and of a result one after the
-// other, and checks that those not yet spoilt are as they were.
-func spoilAndCheck(t *testing.T, name string, script []int, call func(d impl.Device, list []int) (impl.Device, []int)) {
-	t.Helper()
-	arg := impl.Device{Data: roomy(counted(5)), At: 1, Script: roomy(script), Step: 1}
-	list := roomy([]int{9, 8})
-	next, got := call(arg, list)
-	want, wantGot := cloned(next), slices.Clone(got)
-	spoil(arg.Data, arg.Script, list)
-	if !sameDevice(next, want) || !slices.Equal(got, wantGot) {
-		t.Errorf("%s: the result shares memory with an argument", name)
-	}
-	spoil(got)
-	if !sameDevice(next, want) {
-		t.Errorf("%s: Data or Script shares memory with the bytes", name)
-	}
-	spoil(next.Data)
-	if !slices.Equal(next.Script, want.Script) {
-		t.Errorf("%s: Script shares memory with Data", name)
-	}
-	arg = impl.Device{Data: roomy(counted(5)), At: 1, Script: roomy(script), Step: 1}
-	list = roomy([]int{9, 8})
-	next, got = call(arg, list)
-	spoil(next.Data, next.Script, got)
-	if !intact(arg.Data, counted(5)) || !intact(arg.Script, script) || !intact(list, []int{9, 8}) {
-		t.Errorf("%s: an argument shares memory with the result", name)
 	}
 }

@@ -56,12 +56,22 @@ func roomy(list []int) []int {
 	return out[:len(list)]
 }
 
-// spoil overwrites lists with all of their spare capacity.
-func spoil(lists ...[]int) {
-	for _, list := range lists {
-		list = list[:cap(list)]
-		for i := range list {
-			list[i] = -99
+// checkApart checks that no two slices share memory, spare capacity included:
+// each is overwritten with a number of its own, and the others must not change.
+func checkApart(t *testing.T, what string, lists ...[]int) {
+	t.Helper()
+	for i := range lists {
+		var before [][]int
+		for _, list := range lists {
+			before = append(before, slices.Clone(list[:cap(list)]))
+		}
+		for k := range lists[i][:cap(lists[i])] {
+			lists[i][:cap(lists[i])][k] = -100 - i
+		}
+		for j, list := range lists {
+			if j != i && !slices.Equal(list[:cap(list)], before[j]) {
+				t.Errorf("%s: slice %d changed with slice %d", what, j, i)
+			}
 		}
 	}
 }
