@@ -109,8 +109,7 @@ func CutDevice(d Device, n int) (Device, bool) {
 		return Device{}, false
 	}
 	next := copyDevice(d)
-	next.Data = make([]int, n)
-	copy(next.Data, d.Data)
+	next.cut(n)
 	return next, true
 }
 
@@ -157,12 +156,18 @@ func callsToEnd(s stream, n int, most int) int {
 
 // canCall reports whether a device is valid and has a call left.
 func canCall(d Device) bool {
-	return ValidDevice(d) && d.Step < MaxCalls
+	return ValidDevice(d) && hasCalls(d, 1)
+}
+
+// hasCalls reports whether a device has n calls left.
+func hasCalls(d Device, n int) bool {
+	return d.Step <= MaxCalls-n
 }
 
 // read makes a call that reads at most n bytes, and returns them and how it ended.
 func (d *Device) read(n int) ([]int, int) {
-	may, st := d.call()
+	may, st := d.mayHave(d.Step)
+	d.Step++
 	if st != StOk {
 		return nil, st
 	}
@@ -177,7 +182,15 @@ func (d *Device) read(n int) ([]int, int) {
 
 // write makes a call that writes a list, and returns how many of its bytes are written and how it ended.
 func (d *Device) write(list []int) (int, int) {
-	may, st := d.call()
+	n, st := d.writeAs(d.Step, list)
+	d.Step++
+	return n, st
+}
+
+// writeAs writes a list as the call with a number does. It leaves Step alone,
+// so that whoever makes several calls can count them together.
+func (d *Device) writeAs(call int, list []int) (int, int) {
+	may, st := d.mayHave(call)
 	if st != StOk {
 		return 0, st
 	}
@@ -190,13 +203,19 @@ func (d *Device) write(list []int) (int, int) {
 	return n, StOk
 }
 
-// call counts a call, and returns how many bytes it may have, and how it ends if it may have none.
-func (d *Device) call() (int, int) {
+// cut leaves n bytes, of which those that there were not are 0.
+func (d *Device) cut(n int) {
+	data := make([]int, n)
+	copy(data, d.Data)
+	d.Data = data
+}
+
+// mayHave returns how many bytes the call with a number may have, and how it ends if it may have none.
+func (d *Device) mayHave(call int) (int, int) {
 	may := MaxData
-	if d.Step < len(d.Script) {
-		may = d.Script[d.Step]
+	if call < len(d.Script) {
+		may = d.Script[call]
 	}
-	d.Step++
 	switch may {
 	case -1:
 		return 0, StFault
@@ -233,22 +252,24 @@ func writtenAt(data []int, at int, list []int) []int {
 
 // placeFrom returns the place at off bytes from where whence tells, and whether there is one.
 func placeFrom(off int, whence int, now int, end int) (int, bool) {
-	if !isIn(off, -MaxData, MaxData) {
+	if !isSeek(off, whence) {
 		return 0, false
 	}
 	switch whence {
-	case SkStart:
 	case SkNow:
 		off += now
 	case SkEnd:
 		off += end
-	default:
-		return 0, false
 	}
 	if !isIn(off, 0, MaxData) {
 		return 0, false
 	}
 	return off, true
+}
+
+// isSeek reports whether a seek may be asked for so, whether or not there is such a place.
+func isSeek(off int, whence int) bool {
+	return isIn(off, -MaxData, MaxData) && isIn(whence, SkStart, SkEnd)
 }
 
 // areBytes reports whether a list has no more than a device's bytes, and no other numbers.
