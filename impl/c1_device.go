@@ -197,8 +197,8 @@ func (d *Device) writeAs(call int, list []int) (int, int) {
 	if d.At == MaxData {
 		return 0, StFull
 	}
-	n := min(len(list), may, MaxData-d.At)
-	d.Data = writtenAt(d.Data, d.At, list[:n])
+	data, n := writtenAt(d.Data, d.At, list[:min(len(list), may)])
+	d.Data = data
 	d.At += n
 	return n, StOk
 }
@@ -242,12 +242,18 @@ func copyList(list []int) []int {
 	return out
 }
 
-// writtenAt returns data with a list from a place on, and 0 where there were no bytes.
-func writtenAt(data []int, at int, list []int) []int {
-	out := make([]int, max(len(data), at+len(list)))
+// writtenAt returns data with a list from a place on, as far as there is room,
+// and how many bytes of the list that are. Bytes between the end and the place are 0.
+func writtenAt(data []int, at int, list []int) ([]int, int) {
+	n := min(len(list), MaxData-at)
+	if n == 0 {
+		// Where nothing is written, no gap is filled either.
+		return copyList(data), 0
+	}
+	out := make([]int, max(len(data), at+n))
 	copy(out, data)
-	copy(out[at:], list)
-	return out
+	copy(out[at:], list[:n])
+	return out, n
 }
 
 // placeFrom returns the place at off bytes from where whence tells, and whether there is one.

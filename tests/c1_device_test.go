@@ -414,7 +414,7 @@ func TestSeekDeviceWrong(t *testing.T) {
 	for _, whence := range append([]int{-1, 3}, huge...) {
 		check(good, 0, whence)
 	}
-	for _, whence := range []int{impl.SkStart, impl.SkNow, impl.SkEnd} {
+	for _, whence := range whences {
 		for _, off := range append([]int{-61, 61}, huge...) {
 			check(good, off, whence)
 		}

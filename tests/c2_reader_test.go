@@ -633,7 +633,7 @@ func TestPromise23ReadersAreWhereTheyAreTold(t *testing.T) {
 		if r.Dev.Step > 0 && r.Dev.Step < lastStep {
 			continue // no call is made: one script more or less tells nothing
 		}
-		for _, whence := range []int{impl.SkStart, impl.SkNow, impl.SkEnd} {
+		for _, whence := range whences {
 			for off := -impl.MaxData - 1; off <= impl.MaxData+1; off++ {
 				next, ok := impl.SeekReader(r, off, whence)
 				if want, wantOk := seekWant(r, off, whence); ok != wantOk || !sameReader(next, want) {
@@ -689,7 +689,7 @@ func TestSeekReaderWrong(t *testing.T) {
 	for _, whence := range append([]int{-1, 3}, huge...) {
 		check(good, 0, whence)
 	}
-	for _, whence := range []int{impl.SkStart, impl.SkNow, impl.SkEnd} {
+	for _, whence := range whences {
 		for _, off := range append([]int{-61, 61}, huge...) {
 			check(good, off, whence)
 		}

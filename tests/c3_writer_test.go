@@ -24,6 +24,11 @@ func listsTaken() [][]int {
 	return [][]int{nil, {0}, {10}, {255, 10}, {10, 10, 1}, taken(5), taken(18), zeros(60), taken(60)}
 }
 
+// wrongLists are lists that no function takes for bytes.
+func wrongLists() [][]int {
+	return [][]int{counted(61), zeros(61), {-1}, {256}, {1, 2, 256}, {10, 2, -1}, {huge[0]}, {huge[3]}, joined(taken(59), []int{256})}
+}
+
 // writerAt returns the writer of a device with a number of bytes in Buf that stand nowhere else.
 func writerAt(d impl.Device, buf int, size int) impl.Writer {
 	w := impl.Writer{Dev: d, Size: size}
@@ -365,18 +370,19 @@ func TestWriteBytesAsByteByByte(t *testing.T) {
 	}
 }
 
-// What is taken is seen at the place of the writer, as far as there is room,
-// which is 1 greater for each byte.
-func TestWhatIsTakenIsSeen(t *testing.T) {
+// Promise 29: SeenData after WriteBytes is PlainWrite of the bytes that were
+// taken, where TellWriter was, and TellWriter is as much greater.
+func TestPromise29WhatIsTakenIsSeen(t *testing.T) {
 	for _, w := range someWriters() {
 		for _, list := range listsTaken() {
 			next, n, _ := impl.WriteBytes(w, list)
 			place, seen := impl.TellWriter(w), impl.SeenData(w)
-			if fit := list[:max(min(n, impl.MaxData-place), 0)]; len(fit) > 0 {
-				seen = writtenOver(seen, place, fit)
+			if place <= impl.MaxData {
+				p, _ := impl.PlainWrite(impl.Plain{Data: seen, At: place}, list[:n])
+				seen = p.Data
 			}
 			if !slices.Equal(impl.SeenData(next), seen) || impl.TellWriter(next) != place+n {
-				t.Fatalf("WriteBytes(%v, %v) = %v, %d", w, list, next, n)
+				t.Fatalf("WriteBytes(%v, %v) = %v, %d, of which %v is seen, not %v", w, list, next, n, impl.SeenData(next), seen)
 			}
 		}
 	}
@@ -521,7 +527,7 @@ func seekByModel(w impl.Writer, off, whence int) (*writerModel, int) {
 func TestPromise32WritersFlushBeforeTheyGo(t *testing.T) {
 	for _, w := range someWriters() {
 		seen := impl.SeenData(w)
-		for _, whence := range []int{impl.SkStart, impl.SkNow, impl.SkEnd} {
+		for _, whence := range whences {
 			for _, off := range []int{-60, -58, -5, -1, 0, 1, 2, 30, 55, 59, 60} {
 				next, st := impl.SeekWriter(w, off, whence)
 				m, wantSt := seekByModel(w, off, whence)
@@ -686,8 +692,28 @@ func TestWriteLinesAsByteByByte(t *testing.T) {
 			if n != wantN {
 				t.Fatalf("WriteLines(%v, %v) = %v, %d, %d, not %d", w, list, next, n, st, wantN)
 			}
+		}
+	}
+}
+
+// Promise 35: with StOk no newline is left in Buf after WriteLines, if it had
+// nothing, and SeenData is as after PlainWrite.
+func TestPromise35LinesAreWrittenAtOnce(t *testing.T) {
+	for _, w := range someWriters() {
+		place := impl.TellWriter(w)
+		for _, list := range listsTaken() {
+			next, n, st := impl.WriteLines(w, list)
 			if st == impl.StOk && len(w.Buf) == 0 && slices.Contains(next.Buf, 10) {
 				t.Fatalf("WriteLines(%v, %v) = %v, with a line that is not written", w, list, next)
+			}
+			if impl.TellWriter(next) != place+n {
+				t.Fatalf("WriteLines(%v, %v) = %v, %d", w, list, next, n)
+			}
+			if place > impl.MaxData {
+				continue
+			}
+			if p, _ := impl.PlainWrite(impl.Plain{Data: impl.SeenData(w), At: place}, list[:n]); !slices.Equal(impl.SeenData(next), p.Data) {
+				t.Fatalf("WriteLines(%v, %v) = %v, %d, of which %v is seen, not %v", w, list, next, n, impl.SeenData(next), p.Data)
 			}
 		}
 	}
@@ -804,7 +830,7 @@ func wrongWriter(t *testing.T, w impl.Writer) {
 		next, n, st = impl.WriteLines(w, list)
 		wrongWrite(t, "WriteLines", next, n, st)
 	}
-	for _, whence := range []int{impl.SkStart, impl.SkNow, impl.SkEnd} {
+	for _, whence := range whences {
 		for _, off := range []int{-60, 0, 60} {
 			next, st := impl.SeekWriter(w, off, whence)
 			wrongWrite(t, "SeekWriter", next, 0, st)
@@ -834,14 +860,14 @@ func TestWritersWrongNumbers(t *testing.T) {
 	for _, buf := range []int{0, 3, 4} {
 		for _, script := range [][]int{nil, {0}, {2, -1}} {
 			w := writerAt(atPlace(counted(24), 8, 0, script...), buf, 4)
-			for _, list := range [][]int{counted(61), zeros(61), {-1}, {256}, {1, 2, 256}, {10, 2, -1}, {huge[0]}, {huge[3]}, joined(taken(59), []int{256})} {
+			for _, list := range wrongLists() {
 				next, n, st := impl.WriteBytes(w, list)
 				wrongWrite(t, "WriteBytes", next, n, st)
 				next, n, st = impl.WriteLines(w, list)
 				wrongWrite(t, "WriteLines", next, n, st)
 			}
 			for _, off := range append([]int{-61, 61}, huge...) {
-				for _, whence := range []int{impl.SkStart, impl.SkNow, impl.SkEnd} {
+				for _, whence := range whences {
 					next, st := impl.SeekWriter(w, off, whence)
 					wrongWrite(t, "SeekWriter", next, 0, st)
 				}

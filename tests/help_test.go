@@ -10,6 +10,9 @@ import (
 // huge are the numbers with which a sum or a difference may wrap around.
 var huge = []int{-1 << 63, -1<<63 + 1, 1<<63 - 2, 1<<63 - 1}
 
+// whences are the places from which a seek may be told.
+var whences = []int{impl.SkStart, impl.SkNow, impl.SkEnd}
+
 // counted returns n bytes that differ from their neighbours.
 func counted(n int) []int {
 	list := make([]int, n)
